@@ -26,7 +26,7 @@ def drawn(house, thing):
 def turned(house, things):
     """The house with the signs at these things turned, once for each time."""
     check_things(house, things)
-    odd = [thing for thing in range(house.things()) if list(things).count(thing) & 1]
+    odd = [thing for thing in range(house.things()) if things.count(thing) & 1]
     return House(house.things(), house.rank(), [_turned_sign(house, lot, odd) for lot in _lots_of(house)])
 
 

@@ -14,7 +14,8 @@ def signs_of(text):
 
 def lots_of(many, size):
     """All lots in the order of tuples."""
-    return sorted(lot for lot in product(range(many), repeat=size) if list(lot) == sorted(set(lot)))
+    masks = [mask for mask in range(2 ** many) if mask.bit_count() == size]
+    return sorted(tuple(thing for thing in range(many) if mask >> thing & 1) for mask in masks)
 
 
 def row_sign(row):

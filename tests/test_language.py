@@ -189,6 +189,28 @@ class Words(unittest.TestCase):
         for name, node in nodes(ast.ClassDef):
             self.assertEqual(node.decorator_list, [], (name, node.name))
 
+    def test_double_underscore_methods(self):
+        for name, node in nodes(ast.FunctionDef):
+            if not node.name.startswith("__"):
+                continue
+            self.assertIn(node.name, ("__init__", "__eq__", "__repr__", "__str__", "__len__"), (name, node.lineno))
+            told = [inner for inner in ast.walk(node) if isinstance(inner, ast.Return)]
+            if node.name == "__init__":
+                self.assertEqual(told, [], (name, node.lineno))
+            elif node.name != "__eq__":
+                self.assertIs(node.body[-1], told[-1], (name, node.lineno))
+            if node.name == "__len__":
+                for inner in told:
+                    self.assertRegex(ast.unparse(inner.value), r"^(len\(.*\)|\d+)$", (name, node.lineno))
+
+    def test_what_is_kept_at_module_level_is_plain(self):
+        for name, tree in trees().items():
+            for node in tree.body:
+                if isinstance(node, ast.Assign):
+                    told = ast.literal_eval(node.value)
+                    inner = told.values() if isinstance(told, dict) else told if isinstance(told, (list, tuple)) else []
+                    self.assertFalse([one for one in inner if isinstance(one, (list, dict))], (name, node.lineno))
+
     def test_strings_and_numbers(self):
         for name, node in nodes(ast.Constant):
             self.assertNotIsInstance(node.value, (float, complex), (name, node.lineno))
