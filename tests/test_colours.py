@@ -1,5 +1,4 @@
 """Point 18: colours, and the rings and cuts that suit them; points 1 and 2 where they speak of these."""
-import inspect
 import unittest
 from itertools import product
 from random import Random
@@ -21,21 +20,6 @@ def suits(row, colours, let):
 
 
 class Interface(unittest.TestCase):
-
-    def test_names_stand_in_this_file(self):
-        for kept in (suits_ring, suits_cut, ring_or_cut):
-            self.assertEqual(kept.__module__, "signcleave.colours")
-            self.assertTrue(inspect.isfunction(kept))
-
-    def test_arguments(self):
-        for kept, names in (
-            (suits_ring, ["row", "colours"]), (suits_cut, ["row", "colours"]), (ring_or_cut, ["house", "colours", "mark"]),
-        ):
-            told = inspect.signature(kept).parameters
-            self.assertEqual(list(told), names)
-            for argument in told.values():
-                self.assertEqual(argument.kind, argument.POSITIONAL_OR_KEYWORD)
-                self.assertIs(argument.default, argument.empty)
 
     def test_arguments_by_name(self):
         self.assertIs(suits_ring(colours="+*", row=(1, -1)), True)

@@ -1,6 +1,5 @@
 """Point 9: ranks, closed things, loops, bridges, families, parts; points 1 and 2 where they speak of these."""
 import copy
-import inspect
 import unittest
 from itertools import combinations, permutations
 
@@ -50,22 +49,6 @@ def parts_by_steps(house):
 
 
 class Interface(unittest.TestCase):
-
-    def test_names_stand_in_this_file(self):
-        for kept in (rank_of, closed, loops, bridges, families, parts):
-            self.assertEqual(kept.__module__, "signcleave.flats")
-            self.assertTrue(inspect.isfunction(kept))
-
-    def test_arguments(self):
-        for kept, names in (
-            (rank_of, ["house", "things"]), (closed, ["house", "things"]), (loops, ["house"]), (bridges, ["house"]),
-            (families, ["house"]), (parts, ["house"]),
-        ):
-            told = inspect.signature(kept).parameters
-            self.assertEqual(list(told), names)
-            for argument in told.values():
-                self.assertEqual(argument.kind, argument.POSITIONAL_OR_KEYWORD)
-                self.assertIs(argument.default, argument.empty)
 
     def test_arguments_by_name(self):
         house = spread(3, 2)

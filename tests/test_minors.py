@@ -1,6 +1,5 @@
 """Points 10, 11 and 12: houses made of others; points 1, 2, 5 and 7 where they speak of these."""
 import copy
-import inspect
 import unittest
 from itertools import combinations, permutations, product
 from random import Random
@@ -47,22 +46,6 @@ def drawn_signs(house, gone):
 
 
 class Interface(unittest.TestCase):
-
-    def test_names_stand_in_this_file(self):
-        for kept in (dual, struck, drawn, turned, moved, beside):
-            self.assertEqual(kept.__module__, "signcleave.minors")
-            self.assertTrue(inspect.isfunction(kept))
-
-    def test_arguments(self):
-        for kept, names in (
-            (dual, ["house"]), (struck, ["house", "thing"]), (drawn, ["house", "thing"]), (turned, ["house", "things"]),
-            (moved, ["house", "order"]), (beside, ["one", "other"]),
-        ):
-            told = inspect.signature(kept).parameters
-            self.assertEqual(list(told), names)
-            for argument in told.values():
-                self.assertEqual(argument.kind, argument.POSITIONAL_OR_KEYWORD)
-                self.assertIs(argument.default, argument.empty)
 
     def test_arguments_by_name(self):
         house = spread(3, 2)

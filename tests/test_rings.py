@@ -1,6 +1,5 @@
 """Points 7, 8 and 13 (half cuts): rows of signs, rings and cuts, rows that are square; points 1 and 2 for these."""
 import copy
-import inspect
 import unittest
 
 from sample_houses import all_houses, both_ways, cuts_of, few_houses, rings_of, rows_of_signs, square, support, turn
@@ -13,21 +12,6 @@ HOUSES = all_houses()
 
 
 class Interface(unittest.TestCase):
-
-    def test_names_stand_in_this_file(self):
-        for kept in (rings, cuts, half_cuts, are_square):
-            self.assertEqual(kept.__module__, "signcleave.rings")
-            self.assertTrue(inspect.isfunction(kept))
-
-    def test_arguments(self):
-        for kept, names in (
-            (rings, ["house"]), (cuts, ["house"]), (half_cuts, ["house"]), (are_square, ["one", "other"]),
-        ):
-            told = inspect.signature(kept).parameters
-            self.assertEqual(list(told), names)
-            for argument in told.values():
-                self.assertEqual(argument.kind, argument.POSITIONAL_OR_KEYWORD)
-                self.assertIs(argument.default, argument.empty)
 
     def test_arguments_by_name(self):
         house = spread(2, 1)

