@@ -8,14 +8,14 @@ def rings(house):
     many, size = house.things(), house.rank() + 1
     if size > many:
         return []
-    return _both_ways([_ring_row(house, lot) for lot in lots(many, size)])
+    return _both_ways([ring_row(house, lot) for lot in lots(many, size)])
 
 
 def cuts(house):
     """The rising list of all cuts."""
     if house.rank() == 0:
         return []
-    return _both_ways([_cut_row(house, lot) for lot in lots(house.things(), house.rank() - 1)])
+    return _both_ways([cut_row(house, lot) for lot in lots(house.things(), house.rank() - 1)])
 
 
 def half_cuts(house):
@@ -29,7 +29,7 @@ def are_square(one, other):
     return meet_square(one, other)
 
 
-def _ring_row(house, lot):
+def ring_row(house, lot):
     """The row of a lot of rank and one more things."""
     row = [0] * house.things()
     for at, thing in enumerate(lot):
@@ -38,7 +38,7 @@ def _ring_row(house, lot):
     return tuple(row)
 
 
-def _cut_row(house, lot):
+def cut_row(house, lot):
     """The row of a lot of rank less one things."""
     return tuple([house.sign((*lot, thing)) for thing in range(house.things())])
 
